@@ -1,0 +1,1 @@
+"""Onceform: sums of products of bits in which each bit comes once at most."""
