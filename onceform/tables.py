@@ -1,44 +1,29 @@
 """Tables: the worths of a form at the GIVENs 0, 1, 2 and so on."""
 
-from onceform.forms import made
-
-
-def doubled(many):
-    """The number 1 doubled many times: how many GIVENs there are."""
-    size = 1
-    for turn in range(many):
-        size = size * 2
-    return size
+from onceform.bits import doubled
 
 
 def gathered(numbers, sign):
     """The list in which, unknown by unknown, an entry with it takes in sign times the one without it."""
-    bit = 1
-    while bit < len(numbers):
-        numbers = gathered_once(numbers, bit, sign)
-        bit = bit * 2
+    turns = len(numbers).bit_length() - 1
+    # Each turn takes the least bit of the places and puts it back as the greatest, so that after the last turn
+    # all entries stand in their old order.
+    for turn in range(turns):
+        without = numbers[0::2]
+        numbers = without + [number + sign * low for number, low in zip(numbers[1::2], without)]
     return numbers
-
-
-def gathered_once(numbers, bit, sign):
-    """The step of gathered for one unknown, told by its bit."""
-    return [
-        number + sign * numbers[place - bit] if (place & bit) != 0 else number
-        for place, number in enumerate(numbers)
-    ]
 
 
 def table_of(form, many):
     """The list of the form's worths at all GIVENs of that many unknowns."""
     numbers = dict(form)
     # A SET beyond the GIVENs has the product 0 at each of them and is left out.
-    listed = [numbers.get(members, 0) for members in range(doubled(many))]
-    return gathered(listed, 1)
+    return gathered([numbers.get(members, 0) for members in range(doubled(many))], 1)
 
 
 def form_of(table):
     """The form with these worths, the table having one for each GIVEN of its unknowns."""
-    return made(list(enumerate(gathered(table, -1))))
+    return [(members, number) for members, number in enumerate(gathered(table, -1)) if number != 0]
 
 
 def whole_sum(form, many):

@@ -60,3 +60,197 @@ def some_forms(many, count, seed):
         sets = sorted({source.randrange(2 ** many) for place in range(source.randrange(1, 10))})
         forms.append([(members, source.choice(numbers)) for members in sets])
     return forms
+
+
+def bit(given, k):
+    return given // 2 ** k % 2
+
+
+def moved_given(given, new, unknowns):
+    """The GIVEN at which each of the unknowns k has the bit that new[k] has at the first one."""
+    return sum(2 ** k * bit(given, new[k]) for k in unknowns)
+
+
+def with_bit(given, k, its):
+    """The GIVEN with another bit for the unknown k."""
+    return given + (its - bit(given, k)) * 2 ** k
+
+
+def some_yes_no(many, count, seed):
+    """Yes-no forms, the same ones at each run, made from tables of 0 and 1 by the words of a product's worth."""
+    source = random.Random(seed)
+    forms = [[], [(0, 1)], [(1, 1)], [(0, 1), (1, -1)]]
+    while len(forms) < count:
+        weight = source.choice((0.2, 0.5, 0.9))
+        forms.append(form_from([int(source.random() < weight) for given in range(2 ** many)]))
+    return forms
+
+
+def form_from(worths):
+    """The form of a table: at each SET, what is lacking there once all lesser SETs are in."""
+    form = []
+    for given, wanted in enumerate(worths):
+        lacking = wanted - worth(form, given)
+        if lacking != 0:
+            form.append((given, lacking))
+    return form
+
+
+def said(word, bits):
+    """What a word says of its bits, written out."""
+    ones = {"not": ("0",), "and": ("11",), "or": ("01", "10", "11"), "xor": ("01", "10")}
+    return 1 if "".join(str(its) for its in bits) in ones[word] else 0
+
+
+def statement_bit(statement, given):
+    """1 or 0, as the words of the statement say at the GIVEN."""
+    if statement[0] == "bit":
+        return bit(given, statement[1])
+    if statement[0] == "fix":
+        return statement[1]
+    return said(statement[0], [statement_bit(part, given) for part in statement[1:]])
+
+
+def statement_bits(statement):
+    """The unlike bits that the statement speaks of."""
+    if statement[0] == "bit":
+        return {statement[1]}
+    if statement[0] == "fix":
+        return set()
+    return set().union(*(statement_bits(part) for part in statement[1:]))
+
+
+def parts(statement):
+    if statement[0] in ("bit", "fix"):
+        return 1
+    return 1 + sum(parts(part) for part in statement[1:])
+
+
+def a_statement(source, size, bits):
+    """A statement of just so many parts over the bits."""
+    if size == 1:
+        return source.choice([("bit", source.choice(bits)), ("bit", source.choice(bits)), ("fix", source.randrange(2))])
+    if size == 2 or source.random() < 0.25:
+        return ("not", a_statement(source, size - 1, bits))
+    first = source.randrange(1, size - 1)
+    word = source.choice(("and", "or", "xor"))
+    return (word, a_statement(source, first, bits), a_statement(source, size - 1 - first, bits))
+
+
+def some_statements(count, seed, most=40):
+    """Statements of 1 to 40 parts with at most 8 unlike bits, the same ones at each run."""
+    source = random.Random(seed)
+    told = []
+    while len(told) < count:
+        bits = source.sample(range(16), source.randrange(1, 9))
+        told.append(a_statement(source, source.randrange(1, most + 1), bits))
+    return told
+
+
+def statement_text(statement, spare=None):
+    """The text of a statement; with a source for chances, more brackets round some of the parts and the whole."""
+    word = statement[0]
+    if word == "bit":
+        text = "abcdefghijklmnop"[statement[1]]
+    elif word == "fix":
+        text = "01"[statement[1]]
+    else:
+        texts = [part_text(part, spare) for part in statement[1:]]
+        text = f"not {texts[0]}" if word == "not" else f" {word} ".join(texts)
+    while spare is not None and spare.random() < 0.3:
+        text = f"({text})"
+    return text
+
+
+def part_text(part, spare):
+    text = statement_text(part, spare)
+    # A part that has got brackets already needs no others, but may have them.
+    return f"({text})" if part[0] in ("and", "or", "xor") and not wrapped(text) else text
+
+
+def wrapped(text):
+    """Whether the first bracket of a text is closed by its last sign."""
+    depth = 0
+    for place, sign in enumerate(text):
+        depth += {"(": 1, ")": -1}.get(sign, 0)
+        if depth == 0:
+            return sign == ")" and place == len(text) - 1
+    return False
+
+
+def read(text):
+    """The statement that a text is, cut at its outermost and, or, xor, or None."""
+    for word in ("and", "or", "xor"):
+        place = text.find(f" {word} ")
+        while place >= 0:
+            ahead, behind = text[:place], text[place + len(word) + 2:]
+            if ahead.count("(") == ahead.count(")"):
+                left, right = read_part(ahead), read_part(behind)
+                if left is not None and right is not None:
+                    return (word, left, right)
+            place = text.find(f" {word} ", place + 1)
+    return read_part(text)
+
+
+def read_part(text):
+    if len(text) == 1 and text in "abcdefghijklmnop":
+        return ("bit", ord(text) - ord("a"))
+    if text in ("0", "1"):
+        return ("fix", int(text))
+    if text.startswith("not "):
+        part = read_part(text[4:])
+        return None if part is None else ("not", part)
+    if text.startswith("(") and text.endswith(")"):
+        return read(text[1:-1])
+    return None
+
+
+def tree_bit(tree, given):
+    """What a choice tree tells at a GIVEN."""
+    while isinstance(tree, tuple):
+        tree = tree[1] if bit(given, tree[0]) == 1 else tree[2]
+    return tree
+
+
+def tree_size(tree):
+    return 1 + tree_size(tree[1]) + tree_size(tree[2]) if isinstance(tree, tuple) else 0
+
+
+def tree_depth(tree):
+    return 1 + max(tree_depth(tree[1]), tree_depth(tree[2])) if isinstance(tree, tuple) else 0
+
+
+def a_tree(source, size, unknowns):
+    """A choice tree of just so many tuples, its unknowns in any order and twice on a way too."""
+    if size == 0:
+        return source.randrange(2)
+    first = source.randrange(size)
+    return (source.choice(unknowns), a_tree(source, first, unknowns), a_tree(source, size - 1 - first, unknowns))
+
+
+def wire_bits(ins, rows, given):
+    """The bits of all wires, gate by gate."""
+    bits = [bit(given, k) for k in range(ins)]
+    for row in rows:
+        bits.append(row[1] if row[0] == "fix" else said(row[0], [bits[wire] for wire in row[1:]]))
+    return bits
+
+
+def whole_given(bits):
+    """The GIVEN that gives unknown k the bit at place k."""
+    return sum(2 ** k * its for k, its in enumerate(bits))
+
+
+def some_rows(source, ins, count):
+    """Rows of gates; a row that has no wire ahead of it is a fix."""
+    rows = []
+    while len(rows) < count:
+        wires = ins + len(rows)
+        word = source.choice(("fix", "not", "and", "or", "xor", "and", "or", "xor")) if wires else "fix"
+        if word == "fix":
+            rows.append(("fix", source.randrange(2)))
+        elif word == "not":
+            rows.append(("not", source.randrange(wires)))
+        else:
+            rows.append((word, source.randrange(wires), source.randrange(wires)))
+    return rows

@@ -20,6 +20,11 @@ METHODS = set(
 WORDS = set(
     "type typing typing_extensions enum Enum IntEnum StrEnum Flag IntFlag Generic Protocol ABC ABCMeta namedtuple "
     "NamedTuple TypedDict TYPE_CHECKING abstractmethod".split())
+WALKED = ("zip", "enumerate", "reversed", "range")
+WALKED_METHODS = ("items", "keys", "values")
+WALKERS = ("list", "tuple", "dict", "sorted", "sum", "any", "all", "enumerate", "zip", "min", "max")
+KEYWORDS = {"sorted": ("key", "reverse"), "min": ("key", "default"), "max": ("key", "default"), "sum": ("start",),
+            "enumerate": ("start",), "zip": ("strict",)}
 DUNDERS = ("__init__", "__eq__", "__repr__", "__str__", "__len__", "__all__", "__version__")
 OUT = (
     ast.With, ast.Match, ast.Delete, ast.Global, ast.Nonlocal, ast.Assert, ast.Yield, ast.YieldFrom, ast.Await,
@@ -107,14 +112,77 @@ def faults_of_names(tree):
         if isinstance(node, ast.Call) and isinstance(node.func, ast.Attribute):
             known = node.func.attr in METHODS or node.func.attr in own_methods or node.func.attr in DUNDERS
             # A method of another file's class is seen by that file's own walk alone.
-            if not known and hasattr(str, node.func.attr) | hasattr(list, node.func.attr) | hasattr(set, node.func.attr):
+            if not known and any(hasattr(kind, node.func.attr) for kind in (str, int, list, tuple, dict, set)):
                 yield f"L25: {node.func.attr}"
         for name in names:
             if name not in DUNDERS and not re.fullmatch(r"[A-Za-z][A-Za-z0-9_]*", name):
                 yield f"L12: {name}"
 
 
+def is_walked(node):
+    """Whether the node is a call of what must be walked on the spot."""
+    if not isinstance(node, ast.Call):
+        return False
+    if isinstance(node.func, ast.Name):
+        return node.func.id in WALKED
+    return isinstance(node.func, ast.Attribute) and node.func.attr in WALKED_METHODS
+
+
+def faults_of_walks(tree):
+    on_the_spot = []
+    for node in ast.walk(tree):
+        if isinstance(node, (ast.For, ast.comprehension)):
+            on_the_spot.append(node.iter)
+        if isinstance(node, ast.Call) and isinstance(node.func, ast.Name) and node.func.id in WALKERS:
+            on_the_spot.extend(node.args[:1])
+    for node in ast.walk(tree):
+        if is_walked(node) and not any(node is each for each in on_the_spot):
+            yield f"L23 row {node.lineno}"
+        if isinstance(node, (ast.Set, ast.Lambda)) or isinstance(node, ast.Name) and node.id in ("set", "frozenset"):
+            yield f"L24 row {node.lineno}: look at it by hand"
+        if isinstance(node, ast.Call) and node.keywords:
+            known = KEYWORDS.get(ast.unparse(node.func), ())
+            if any(keyword.arg not in known for keyword in node.keywords):
+                yield f"L22 row {node.lineno}"
+
+
+def faults_of_locals(tree):
+    outer = [alias.name for node in tree.body if isinstance(node, ast.ImportFrom) for alias in node.names]
+    outer += [node.name for node in tree.body if isinstance(node, ast.ClassDef)]
+    for node in ast.walk(tree):
+        if isinstance(node, ast.arg) and node.arg in outer:
+            yield f"L15 row {node.lineno}: {node.arg}"
+        if isinstance(node, ast.Name) and isinstance(node.ctx, ast.Store) and node.id in outer:
+            yield f"L15 row {node.lineno}: {node.id}"
+        if isinstance(node, ast.alias) and node.asname is not None:
+            yield f"L16 row {node.lineno}"
+
+
+def drawn_from(tree):
+    """The names that a file draws, by the files."""
+    drawn = {}
+    for node in tree.body:
+        if isinstance(node, ast.ImportFrom):
+            drawn.setdefault(node.module.split(".")[-1], []).extend(alias.name for alias in node.names)
+    return drawn
+
+
 class Language(unittest.TestCase):
+    def test_imports(self):
+        trees = {path.stem: ast.parse(path.read_text("utf-8")) for path in FILES}
+        drawn = {name: drawn_from(tree) for name, tree in trees.items()}
+        for name, files in drawn.items():
+            for other, names in files.items():
+                defined = [node.name for node in trees[other].body if isinstance(node, (ast.FunctionDef, ast.ClassDef))]
+                self.assertLessEqual(set(names), set(defined), name)
+                used = {node.id for node in ast.walk(trees[name]) if isinstance(node, ast.Name)}
+                self.assertLessEqual(set(names), used, name)
+        settled = []
+        while len(settled) < len(drawn):
+            ready = [name for name in drawn if name not in settled and set(drawn[name]) <= set(settled)]
+            self.assertTrue(ready, "files draw from one another")
+            settled.extend(ready)
+
     def test_files(self):
         self.assertIn(PACKAGE / "__init__.py", FILES)
         for path in FILES:
@@ -125,6 +193,7 @@ class Language(unittest.TestCase):
             text = path.read_bytes().decode("utf-8")
             tree = ast.parse(text)
             found = list(faults_of_text(text)) + list(faults_of_top(tree)) + list(faults_of_names(tree))
+            found += list(faults_of_walks(tree)) + list(faults_of_locals(tree))
             for node in ast.walk(tree):
                 found.extend(f"row {getattr(node, 'lineno', '?')}: {fault}" for fault in faults_of_node(node))
             self.assertEqual(found, [], path.name)

@@ -1,35 +1,55 @@
 """Point 4: nothing handed in is changed, and what is told is the asker's own."""
 
+import copy
 import unittest
 
+from onceform.changes import fixed, is_yes_no, put_in, renamed, unlike, unlike_by
 from onceform.forms import is_form, less, made, plus, scaled, times, unknowns, worth
+from onceform.gates import bits_for, read_back, wire_forms
+from onceform.statements import form_of_statement, read, shown
 from onceform.tables import form_of, table_of, whole_sum
+from onceform.trees import all_ways, form_of_tree, tree_of, ways
 
-FORM = ((0, 2), (1, -3), (6, 10 ** 60))
-OTHER = ((1, 4), (2, 1))
-LOOSE = ((6, 1), (1, 0), (6, 2), (0, -5))
+FORM = [(0, 2), (1, -3), (6, 10 ** 60)]
+OTHER = [(1, 4), (2, 1)]
+LOOSE = [(6, 1), (1, 0), (6, 2), (0, -5)]
+ONE = [(0, 1)]
+EITHER = [(1, 1), (2, 1), (3, -2)]
+STATEMENT = ("and", ("not", ("bit", 0)), ("or", ("bit", 2), ("fix", 0)))
+TREE = (3, (1, 1, 0), (1, (3, 1, 0), 1))
+ROWS = [("not", 0), ("fix", 1), ("and", 0, 1), ("or", 2, 4), ("xor", 3, 5)]
 
-# Each call with what it is handed: a tuple stands for a fresh list of its entries.
+# Each call with what it is handed; a fresh copy of it is handed in each time.
 CALLS = (
-    (made, (LOOSE,)), (made, (FORM,)), (made, ((),)),
-    (plus, (FORM, OTHER)), (plus, (FORM, ())), (plus, ((), FORM)), (plus, ((), ())),
-    (less, (FORM, OTHER)), (less, (FORM, ())), (less, ((), FORM)),
-    (times, (FORM, OTHER)), (times, (FORM, ((0, 1),))), (times, (((0, 1),), FORM)), (times, (FORM, ())),
-    (scaled, (FORM, 3)), (scaled, (FORM, 1)), (scaled, (FORM, 0)), (scaled, ((), 1)),
-    (worth, (FORM, 7)), (unknowns, (FORM,)), (is_form, (FORM,)), (is_form, (LOOSE,)),
-    (table_of, (FORM, 3)), (table_of, (((0, 5),), 0)), (table_of, ((), 0)),
-    (form_of, ((1, 2, 3, 4),)), (form_of, ((5,),)), (form_of, ((0,),)),
-    (whole_sum, (FORM, 3)), (whole_sum, (FORM, 60)),
+    (made, [LOOSE]), (made, [FORM]), (made, [[]]),
+    (plus, [FORM, OTHER]), (plus, [FORM, []]), (plus, [[], FORM]), (plus, [[], []]),
+    (less, [FORM, OTHER]), (less, [FORM, []]), (less, [[], FORM]),
+    (times, [FORM, OTHER]), (times, [FORM, ONE]), (times, [ONE, FORM]), (times, [FORM, []]),
+    (scaled, [FORM, 3]), (scaled, [FORM, 1]), (scaled, [FORM, 0]), (scaled, [[], 1]),
+    (worth, [FORM, 7]), (unknowns, [FORM]), (is_form, [FORM]), (is_form, [LOOSE]),
+    (table_of, [FORM, 3]), (table_of, [[(0, 5)], 0]), (table_of, [[], 0]),
+    (form_of, [[1, 2, 3, 4]]), (form_of, [[5]]), (form_of, [[0]]),
+    (whole_sum, [FORM, 3]), (whole_sum, [FORM, 60]),
+    (fixed, [FORM, 1, 0]), (fixed, [FORM, 1, 1]), (fixed, [FORM, 9, 0]), (fixed, [FORM, 9, 1]), (fixed, [[], 0, 0]),
+    (renamed, [FORM, [2, 1, 0]]), (renamed, [FORM, [0, 1, 2]]), (renamed, [FORM, [5, 5, 5]]), (renamed, [[], []]),
+    (is_yes_no, [FORM]), (is_yes_no, [EITHER]),
+    (put_in, [FORM, 1, EITHER]), (put_in, [FORM, 9, EITHER]), (put_in, [[(1, 1)], 0, EITHER]), (put_in, [FORM, 0, []]),
+    (unlike, [FORM, OTHER]), (unlike, [FORM, FORM]), (unlike_by, [FORM, OTHER, 2]), (unlike_by, [FORM, OTHER, 1]),
+    (form_of_statement, [STATEMENT]), (form_of_statement, [("bit", 3)]), (form_of_statement, [("fix", 1)]),
+    (form_of_statement, [("fix", 0)]), (shown, [STATEMENT]), (read, ["not a and (c or 0)"]),
+    (ways, [EITHER, 3]), (all_ways, [EITHER, 3]), (all_ways, [[], 0]), (tree_of, [EITHER]),
+    (form_of_tree, [TREE]), (form_of_tree, [0]), (form_of_tree, [1]), (form_of_tree, [(0, (1, 1, 0), (1, 1, 0))]),
+    (bits_for, [2, ROWS, 3]), (bits_for, [2, [], 1]), (bits_for, [0, [], 0]),
+    (wire_forms, [2, ROWS]), (wire_forms, [2, []]), (wire_forms, [1, [("or", 0, 0), ("and", 1, 0)]]),
+    (read_back, [2, ROWS, [(1, 1), (64, 5)]]), (read_back, [2, ROWS, [(1, 1)]]), (read_back, [2, [], FORM]),
 )
 
 
-def handed(things):
-    return [list(thing) if isinstance(thing, tuple) else thing for thing in things]
-
-
 def spoil(told):
-    """Changes each entry of a list and its length."""
+    """Changes each entry of a list and its length, the lists within it first."""
     for place in range(len(told)):
+        if isinstance(told[place], list):
+            spoil(told[place])
         told[place] = "spoilt"
     told.append("more")
 
@@ -38,50 +58,59 @@ class Own(unittest.TestCase):
     def test_what_is_handed_in_stays_as_it_was(self):
         for call, things in CALLS:
             with self.subTest(call=call.__name__, things=things):
-                given = handed(things)
+                given = copy.deepcopy(things)
                 call(*given)
-                self.assertEqual(given, handed(things))
+                self.assertEqual(given, things)
 
     def test_a_told_list_that_is_changed_changes_nothing_else(self):
         for call, things in CALLS:
             with self.subTest(call=call.__name__, things=things):
-                given = handed(things)
+                given = copy.deepcopy(things)
                 told = call(*given)
                 if not isinstance(told, list):
                     continue
-                wanted = list(told)
+                wanted = copy.deepcopy(told)
                 spoil(told)
-                self.assertEqual(given, handed(things))
+                self.assertEqual(given, things)
                 self.assertEqual(call(*given), wanted)
-                self.assertEqual(call(*handed(things)), wanted)
+                self.assertEqual(call(*copy.deepcopy(things)), wanted)
 
     def test_a_handed_list_that_is_changed_changes_nothing_told(self):
         for call, things in CALLS:
             with self.subTest(call=call.__name__, things=things):
-                given = handed(things)
+                given = copy.deepcopy(things)
                 told = call(*given)
-                wanted = list(told) if isinstance(told, list) else told
+                wanted = copy.deepcopy(told)
                 for thing in given:
                     if isinstance(thing, list):
                         spoil(thing)
                 self.assertEqual(told, wanted)
-                self.assertEqual(call(*handed(things)), wanted)
+                self.assertEqual(call(*copy.deepcopy(things)), wanted)
 
     def test_later_calls_change_nothing_told(self):
-        told = [call(*handed(things)) for call, things in CALLS]
-        wanted = [list(each) if isinstance(each, list) else each for each in told]
-        again = [call(*handed(things)) for call, things in CALLS]
+        told = [call(*copy.deepcopy(things)) for call, things in CALLS]
+        wanted = copy.deepcopy(told)
+        again = [call(*copy.deepcopy(things)) for call, things in CALLS]
         self.assertEqual(again, wanted)
         for each in again:
             if isinstance(each, list):
                 spoil(each)
         self.assertEqual(told, wanted)
 
+    def test_lists_told_together_are_not_one_list(self):
+        for call, things in CALLS:
+            told = call(*copy.deepcopy(things))
+            inner = [each for each in told if isinstance(each, list)] if isinstance(told, list) else []
+            self.assertEqual(len({id(each) for each in inner}), len(inner), call.__name__)
+
     def test_one_list_handed_in_twice(self):
         form = list(FORM)
-        for call in (plus, less, times):
+        for call in (plus, less, times, unlike):
             call(form, form)
-            self.assertEqual(form, list(FORM))
+            self.assertEqual(form, FORM)
+        either = list(EITHER)
+        put_in(either, 0, either)
+        self.assertEqual(either, EITHER)
 
 
 if __name__ == "__main__":
