@@ -21,3 +21,16 @@ def bits_of(given, many):
 def listed(members):
     """The list of the unknowns in a set, rising."""
     return [k for k, bit in enumerate(bits_of(members, members.bit_length())) if bit == 1]
+
+
+def lowest(members):
+    """The set of the least unknown of a set alone, or 0."""
+    return members - (members & (members - 1))
+
+
+def given_of(bits):
+    """The GIVEN that gives each unknown k the bit at place k of the list."""
+    given = 0
+    for bit in reversed(bits):
+        given = given * 2 + bit
+    return given

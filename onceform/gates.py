@@ -39,9 +39,16 @@ def gate_form(row, forms):
 
 def read_back(ins, rows, form):
     """The list of forms that come as the rows' wires are put away from the last one on, the form itself first."""
+    return steps_within(ins, rows, form, None)
+
+
+def steps_within(ins, rows, form, most):
+    """The list of read_back, but ended by the first form of more than most tuples; where most is None, whole."""
     wires = single_wires(ins + len(rows))
     steps = [list(form)]
     for place in range(len(rows) - 1, -1, -1):
+        if most is not None and len(steps[-1]) > most:
+            break
         gate = gate_form(rows[place], wires)
         steps.append(put_in(steps[-1], ins + place, gate))
     return steps

@@ -1,6 +1,7 @@
 """Tables: the worths of a form at the GIVENs 0, 1, 2 and so on."""
 
 from onceform.bits import doubled
+from onceform.forms import unknowns
 
 
 def gathered(numbers, sign):
@@ -19,6 +20,15 @@ def table_of(form, many):
     numbers = dict(form)
     # A SET beyond the GIVENs has the product 0 at each of them and is left out.
     return gathered([numbers.get(members, 0) for members in range(doubled(many))], 1)
+
+
+def paired_tables(one, other):
+    """The tables of two forms, or None where it is shorter to go through all pairs of their tuples."""
+    many = (unknowns(one) | unknowns(other)).bit_length()
+    # Forms of very many tuples over few unknowns have far more pairs of tuples than GIVENs.
+    if len(one) * len(other) <= (many + 1) * doubled(many):
+        return None
+    return (table_of(one, many), table_of(other, many))
 
 
 def form_of(table):

@@ -1,8 +1,7 @@
 """The words not, and, or, xor, said of bits and of yes-no forms."""
 
-from onceform.bits import doubled
-from onceform.forms import less, plus, scaled, times, unknowns
-from onceform.tables import form_of, table_of
+from onceform.forms import less, plus, scaled, times
+from onceform.tables import form_of, paired_tables
 
 
 def bit_of_word(word, bits):
@@ -20,11 +19,10 @@ def form_of_word(word, parts):
     """The yes-no form that the word tells of its one or two yes-no forms."""
     if word == "not":
         return less([(0, 1)], parts[0])
-    many = (unknowns(parts[0]) | unknowns(parts[1])).bit_length()
-    # Forms of very many tuples over few unknowns have far more pairs of tuples than GIVENs.
-    if len(parts[0]) * len(parts[1]) > (many + 1) * doubled(many):
-        return joined_by_tables(word, parts, many)
-    return joined(word, parts[0], parts[1])
+    tables = paired_tables(parts[0], parts[1])
+    if tables is None:
+        return joined(word, parts[0], parts[1])
+    return form_of([bit_of_word(word, pair) for pair in zip(tables[0], tables[1])])
 
 
 def joined(word, one, other):
@@ -35,10 +33,3 @@ def joined(word, one, other):
     # Where both are 1 their sum is 2: or leaves one of it, xor nothing.
     taken = -1 if word == "or" else -2
     return plus(plus(one, other), scaled(both, taken))
-
-
-def joined_by_tables(word, parts, many):
-    """The same as joined, gone through at all GIVENs of that many unknowns."""
-    one = table_of(parts[0], many)
-    other = table_of(parts[1], many)
-    return form_of([bit_of_word(word, pair) for pair in zip(one, other)])

@@ -254,3 +254,188 @@ def some_rows(source, ins, count):
         else:
             rows.append((word, source.randrange(wires), source.randrange(wires)))
     return rows
+
+
+def word_worth(wires, below, bits):
+    """What a list of wires is worth, read as a word, the bits of all wires being told."""
+    told = sum(2 ** place * bits[wire] for place, wire in enumerate(wires))
+    return told - 2 * 2 ** (len(wires) - 1) * bits[wires[-1]] if below and wires else told
+
+
+def formula_worth(formula, given):
+    if formula[0] == "number":
+        return formula[1]
+    if formula[0] == "word":
+        return word_worth(formula[1], formula[2], [bit(given, k) for k in range(60)])
+    one, other = (formula_worth(part, given) for part in formula[1:])
+    return {"plus": one + other, "less": one - other, "times": one * other}[formula[0]]
+
+
+def a_formula(source, size, ins):
+    """A formula of at most so many parts over the inputs."""
+    if size < 3:
+        if source.random() < 0.3:
+            return ("number", source.choice((0, 1, 2, 3, 7, 10 ** 12, source.randrange(10 ** 12))))
+        length = source.choice((0, 1, 2, 3, 16)) if ins else 0
+        return ("word", [source.randrange(ins) for place in range(length)], source.random() < 0.4)
+    first = source.randrange(1, size - 1)
+    word = source.choice(("plus", "less", "times"))
+    return (word, a_formula(source, first, ins), a_formula(source, size - 1 - first, ins))
+
+
+def claim_form(ins, claim):
+    """The form of the claim's word less its formula, over the wires."""
+    formula = form_from([formula_worth(claim[2], given) for given in range(2 ** ins)])
+    told = {members: -number for members, number in formula}
+    for place, wire in enumerate(claim[0]):
+        sign = -1 if claim[1] and place == len(claim[0]) - 1 else 1
+        told[2 ** wire] = told.get(2 ** wire, 0) + sign * 2 ** place
+    return sorted((members, number) for members, number in told.items() if number != 0)
+
+
+def gate_tuples(row):
+    """The tuples of a gate over its own wires, written out."""
+    if row[0] == "fix":
+        return [(0, row[1])]
+    one, other = 2 ** row[1], 2 ** row[-1]
+    both = sum({one, other})
+    return {"not": [(0, 1), (one, -1)], "and": [(both, 1)], "or": [(one, 1), (other, 1), (both, -1)],
+            "xor": [(one, 1), (other, 1), (both, -2)]}[row[0]]
+
+
+def steps(ins, rows, form):
+    """The list of point 15: tuple by tuple, a row's wire makes room for its gate's tuples."""
+    told = [form]
+    for place in range(len(rows) - 1, -1, -1):
+        wire, sums = 2 ** (ins + place), {}
+        for members, number in told[-1]:
+            has = bit(members, ins + place)
+            for others, factor in gate_tuples(rows[place]) if has else [(0, 1)]:
+                joined = members - has * wire | others
+                sums[joined] = sums.get(joined, 0) + number * factor
+        told.append(sorted((members, number) for members, number in sums.items() if number != 0))
+    return told
+
+
+def claim_holds(ins, rows, claim, given):
+    wires, below, formula, rest = claim
+    gap = word_worth(wires, below, wire_bits(ins, rows, given)) - formula_worth(formula, given)
+    return gap == 0 if rest == 0 else gap % rest == 0
+
+
+def first_wrong(ins, rows, claim):
+    """The least GIVEN at which the claim does not hold, or None."""
+    return next((given for given in range(2 ** ins) if not claim_holds(ins, rows, claim, given)), None)
+
+
+class Builder:
+    """Rows of gates as they are put together."""
+
+    def __init__(self, ins):
+        self.ins = ins
+        self.rows = []
+
+    def gate(self, *row):
+        self.rows.append(row)
+        return self.ins + len(self.rows) - 1
+
+    def half(self, one, other):
+        """The wires of the sum's low and high bit."""
+        return self.gate("xor", one, other), self.gate("and", one, other)
+
+    def full(self, one, other, third):
+        low, high = self.half(one, other)
+        lowest, second = self.half(low, third)
+        return lowest, self.gate("or", high, second)
+
+    def added(self, columns):
+        """The wires of the bits of a sum; each column holds the wires of one place."""
+        outs = []
+        while len(outs) < len(columns):
+            column = columns[len(outs)]
+            while len(column) > 1:
+                taken = [column.pop(0) for turn in range(min(3, len(column)))]
+                low, high = self.half(*taken) if len(taken) == 2 else self.full(*taken)
+                column.append(low)
+                if len(columns) == len(outs) + 1:
+                    columns.append([])
+                columns[len(outs) + 1].append(high)
+            outs.append(column[0])
+        return outs
+
+
+def adder(first, second):
+    """The inputs, rows and outs that add two words of so many bits."""
+    builder = Builder(first + second)
+    columns = [[] for place in range(max(first, second))]
+    for wire in range(first + second):
+        columns[wire if wire < first else wire - first].append(wire)
+    return builder.ins, builder.rows, builder.added(columns)
+
+
+def multiplier(first, second):
+    """The inputs, rows and outs that multiply two words of so many bits."""
+    builder = Builder(first + second)
+    columns = [[] for place in range(first + second - 1)]
+    for one in range(first):
+        for other in range(second):
+            columns[one + other].append(builder.gate("and", one, first + other))
+    return builder.ins, builder.rows, builder.added(columns)
+
+
+def floor(form):
+    return sum(number for members, number in form if number < 0) + max(0, dict(form).get(0, 0))
+
+
+def got(form, k, its):
+    """The form whose unknown k has got the bit."""
+    sums = {}
+    for members, number in form:
+        if bit(members, k) <= its:
+            without = members - bit(members, k) * 2 ** k
+            sums[without] = sums.get(without, 0) + number
+    return sorted((members, number) for members, number in sums.items() if number != 0)
+
+
+def most_shown(form, paper):
+    """The greatest number that a paper shows for a form, gone through to each of its ends."""
+    if paper == 0:
+        return floor(form)
+    return min(most_shown(got(form, paper[0], 1), paper[1]), most_shown(got(form, paper[0], 0), paper[2]))
+
+
+def a_paper(source, size, unknowns):
+    """A paper of just so many tuples, its unknowns in any order and twice on a way too."""
+    if size == 0:
+        return 0
+    first = source.randrange(size)
+    return (source.choice(unknowns), a_paper(source, first, unknowns), a_paper(source, size - 1 - first, unknowns))
+
+
+def twice_on_a_way(paper, ahead=()):
+    """Whether an unknown comes twice on a way of a paper."""
+    if paper == 0:
+        return False
+    return paper[0] in ahead or any(twice_on_a_way(part, ahead + (paper[0],)) for part in paper[1:])
+
+
+def some_pulling(many, count, seed):
+    """Forms over so many unknowns that pull together, the same ones at each run."""
+    source = random.Random(seed)
+    pairs = [2 ** one + 2 ** other for one in range(many) for other in range(one)]
+    forms = []
+    while len(forms) < count:
+        great, share = source.choice((1, 2, 9, BIG)), source.random()
+        told = {members: -source.randint(1, great) for members in pairs if source.random() < share}
+        # Single unknowns that weigh about what the pairs do leave it open which bits make the least worth.
+        for k in range(many):
+            told[2 ** k] = source.randint(-great, great * max(1, round(many * share)))
+        told[0] = source.choice((0, 0, 1, -1, BIG, -BIG))
+        forms.append(sorted((members, number) for members, number in told.items() if number != 0))
+    return forms
+
+
+def product_worth(made_of, given):
+    """The worth of a tuple (NUMBER, SET, TURNED) at a GIVEN."""
+    number, members, turned = made_of
+    return number if product(members, given) == 1 and given & turned == 0 else 0

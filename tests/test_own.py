@@ -4,8 +4,11 @@ import copy
 import unittest
 
 from onceform.changes import fixed, is_yes_no, put_in, renamed, unlike, unlike_by
+from onceform.claims import form_of_formula, judged, walks, worth_of
 from onceform.forms import is_form, less, made, plus, scaled, times, unknowns, worth
 from onceform.gates import bits_for, read_back, wire_forms
+from onceform.least import floor, least, shows
+from onceform.pulls import products_show, pulled
 from onceform.statements import form_of_statement, read, shown
 from onceform.tables import form_of, table_of, whole_sum
 from onceform.trees import all_ways, form_of_tree, tree_of, ways
@@ -18,6 +21,11 @@ EITHER = [(1, 1), (2, 1), (3, -2)]
 STATEMENT = ("and", ("not", ("bit", 0)), ("or", ("bit", 2), ("fix", 0)))
 TREE = (3, (1, 1, 0), (1, (3, 1, 0), 1))
 ROWS = [("not", 0), ("fix", 1), ("and", 0, 1), ("or", 2, 4), ("xor", 3, 5)]
+FORMULA = ("less", ("times", ("word", [0, 1], True), ("word", [1, 1], False)), ("number", 4))
+ADDING = [("xor", 0, 1), ("and", 0, 1)]
+ADDED = ("plus", ("word", [0], False), ("word", [1], False))
+STEPS = [[(1, -1), (2, -1), (4, 1), (8, 2)], [(1, -1), (2, -1), (3, 2), (4, 1)], []]
+PULLING = [(0, 2), (1, 3), (2, 1), (3, -5), (5, -1)]
 
 # Each call with what it is handed; a fresh copy of it is handed in each time.
 CALLS = (
@@ -42,16 +50,32 @@ CALLS = (
     (bits_for, [2, ROWS, 3]), (bits_for, [2, [], 1]), (bits_for, [0, [], 0]),
     (wire_forms, [2, ROWS]), (wire_forms, [2, []]), (wire_forms, [1, [("or", 0, 0), ("and", 1, 0)]]),
     (read_back, [2, ROWS, [(1, 1), (64, 5)]]), (read_back, [2, ROWS, [(1, 1)]]), (read_back, [2, [], FORM]),
+    (form_of_formula, [FORMULA]), (form_of_formula, [("word", [1], False)]), (form_of_formula, [("number", 0)]),
+    (worth_of, [FORMULA, 2]), (judged, [2, ADDING, ([2, 3], False, ADDED, 0)]),
+    (judged, [2, ADDING, ([2], True, ADDED, 1)]), (judged, [2, ADDING, ([3, 2], False, ADDED, 0)]),
+    (judged, [2, [], ([0, 1], True, ("word", [0, 1], True), 0)]),
+    (judged, [0, [("fix", 0), ("fix", 0)], ([], False, ("number", 0), 0)]),
+    (walks, [2, ADDING, ([2, 3], False, ADDED, 0), STEPS]), (walks, [2, ADDING, ([2, 3], False, ADDED, 0), STEPS[:1]]),
+    (floor, [FORM]), (least, [FORM, 3]), (least, [EITHER, 2]), (least, [[], 0]),
+    (shows, [EITHER, 0, (0, 0, (1, 0, 0))]), (shows, [EITHER, 1, (0, 0, (1, 0, 0))]),
+    (pulled, [PULLING]), (pulled, [[]]), (pulled, [[(0, 3)]]), (pulled, [[(2, -1)]]),
+    (products_show, [[(0, 4), (3, 1)], 1, [(1, 3, 0), (3, 0, 0)]]), (products_show, [[], 0, []]),
+    (products_show, [[(0, 1), (1, -1)], 0, [(1, 0, 1)]]),
 )
 
 
+def lists_in(told):
+    """The lists that a told or handed value holds, itself among them, the inmost first."""
+    if not isinstance(told, (list, tuple)):
+        return []
+    inner = [each for entry in told for each in lists_in(entry)]
+    return inner + [told] if isinstance(told, list) else inner
+
+
 def spoil(told):
-    """Changes each entry of a list and its length, the lists within it first."""
-    for place in range(len(told)):
-        if isinstance(told[place], list):
-            spoil(told[place])
-        told[place] = "spoilt"
-    told.append("more")
+    """Changes each entry and the length of each list that a value holds."""
+    for each in lists_in(told):
+        each[:] = ["spoilt"] * (len(each) + 1)
 
 
 class Own(unittest.TestCase):
@@ -67,8 +91,6 @@ class Own(unittest.TestCase):
             with self.subTest(call=call.__name__, things=things):
                 given = copy.deepcopy(things)
                 told = call(*given)
-                if not isinstance(told, list):
-                    continue
                 wanted = copy.deepcopy(told)
                 spoil(told)
                 self.assertEqual(given, things)
@@ -82,8 +104,7 @@ class Own(unittest.TestCase):
                 told = call(*given)
                 wanted = copy.deepcopy(told)
                 for thing in given:
-                    if isinstance(thing, list):
-                        spoil(thing)
+                    spoil(thing)
                 self.assertEqual(told, wanted)
                 self.assertEqual(call(*copy.deepcopy(things)), wanted)
 
@@ -93,15 +114,14 @@ class Own(unittest.TestCase):
         again = [call(*copy.deepcopy(things)) for call, things in CALLS]
         self.assertEqual(again, wanted)
         for each in again:
-            if isinstance(each, list):
-                spoil(each)
+            spoil(each)
         self.assertEqual(told, wanted)
 
     def test_lists_told_together_are_not_one_list(self):
         for call, things in CALLS:
             told = call(*copy.deepcopy(things))
-            inner = [each for each in told if isinstance(each, list)] if isinstance(told, list) else []
-            self.assertEqual(len({id(each) for each in inner}), len(inner), call.__name__)
+            lists = lists_in(told)
+            self.assertEqual(len({id(each) for each in lists}), len(lists), call.__name__)
 
     def test_one_list_handed_in_twice(self):
         form = list(FORM)
