@@ -15,7 +15,10 @@ def least(form, many):
     """The tuple of the form's least worth, the least GIVEN that has it, and a paper for it."""
     table = table_of(form, many)
     number = min(table)
-    return (number, table.index(number), paper_for(form, number))
+    # As in the table, a SET beyond the GIVENs counts for nothing.
+    size = doubled(many)
+    inside = [(members, own) for members, own in form if members < size]
+    return (number, table.index(number), paper_for(inside, number))
 
 
 def paper_for(form, number):

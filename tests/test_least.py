@@ -76,6 +76,10 @@ class Least(unittest.TestCase):
         for form in byhand.some_forms(3, 30, 803):
             self.agree(form, 5)
 
+    def test_sets_beyond_many_are_not_refused(self):
+        self.assertEqual(least([(4, -1)], 2), (0, 0, 0))
+        self.assertEqual(least([(0, 3), (1, -1), (5, -8)], 2)[:2], (2, 1))
+
     def test_tables_of_all_sorts(self):
         source = random.Random(804)
         for many in range(6):
