@@ -13,12 +13,41 @@ SPACED = ("not ", " and ", " or ", " xor ")
 
 def form_of_statement(statement):
     """The form of a statement."""
-    word = statement[0]
-    if word == "bit":
-        return [(doubled(statement[1]), 1)]
-    if word == "fix":
-        return made([(0, statement[1])])
-    return form_of_word(word, [form_of_statement(part) for part in statement[1:]])
+    # The forms of the parts whose whole is still to come; kept in a list, so that no depth is too great.
+    forms = []
+    for part in reversed(parts_of(statement)):
+        word = part[0]
+        if word == "bit":
+            forms.append([(doubled(part[1]), 1)])
+        elif word == "fix":
+            forms.append(made([(0, part[1])]))
+        elif word == "not":
+            forms.append(form_of_word(word, [forms.pop()]))
+        else:
+            last = forms.pop()
+            forms.append(form_of_word(word, [forms.pop(), last]))
+    return forms[0]
+
+
+def parts_of(statement):
+    """The list of the statement and all its parts, each ahead of its own parts, the last of these first."""
+    parts = []
+    waiting = [statement]
+    while waiting:
+        part = waiting.pop()
+        parts.append(part)
+        if part[0] == "not" or part[0] in JOINING:
+            waiting.extend(part[1:])
+    return parts
+
+
+def bits_in(statement):
+    """The list of the unlike bits of a statement, rising."""
+    bits = {}
+    for part in parts_of(statement):
+        if part[0] == "bit":
+            bits[part[1]] = True
+    return sorted(bits)
 
 
 def shown(statement):

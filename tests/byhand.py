@@ -1,8 +1,11 @@
 """The document's own words of forms, bit by bit, and lists to try them on. It draws nothing from the program."""
 
+import functools
 import random
+import re
 
 BIG = 10 ** 59 + 7
+LETTERS = "abcdefghijklmnop"
 
 
 def product(members, given):
@@ -439,3 +442,181 @@ def product_worth(made_of, given):
     """The worth of a tuple (NUMBER, SET, TURNED) at a GIVEN."""
     number, members, turned = made_of
     return number if product(members, given) == 1 and given & turned == 0 else 0
+
+
+@functools.cache
+def most_asks(many, terms):
+    """How many asks point 22 allows."""
+    level = max((power for power in range(20) if 2 ** power <= terms), default=0)
+    few = sum(1 for given in range(2 ** many) if sum(1 - bit(given, k) for k in range(many)) <= level)
+    return (terms + 1) * (many + 1) * few
+
+
+def cancelling(fixed_ones, turned, number):
+    """The form of a product of unknowns, and of 1 less unknowns: it is worth 0 wherever one of the latter has 1."""
+    form = [(fixed_ones, number)]
+    for k in turned:
+        form = form + [(members | 2 ** k, -own) for members, own in form]
+    return sorted(form)
+
+
+def letters(members):
+    return "".join(LETTERS[k] for k in range(16) if bit(members, k))
+
+
+def form_text(form):
+    """The text of a form, put together tuple by tuple."""
+    text = ""
+    for members, number in form:
+        if text:
+            text += " - " if number < 0 else " + "
+        elif number < 0:
+            text = "-"
+        figures = str(abs(number))
+        text += letters(members) if figures == "1" and members else figures + letters(members)
+    return text or "0"
+
+
+# One tuple with its sign: the figures, then the letters, of which each comes once at most and in their order.
+WRITTEN = " ([+-]) ((?:[1-9][0-9]*)?)(" + "".join(f"{letter}?" for letter in LETTERS) + ")"
+
+
+def text_form(text):
+    """The form that a text is, or None."""
+    if text == "0":
+        return []
+    signed = f" - {text[1:]}" if text.startswith("-") else f" + {text}"
+    if not re.fullmatch(f"(?:{WRITTEN})+", signed):
+        return None
+    form = []
+    for sign, figures, its in re.findall(WRITTEN, signed):
+        if figures + its == "" or figures == "1" and its:
+            return None
+        number = int(figures or "1")
+        form.append((sum(2 ** LETTERS.index(letter) for letter in its), -number if sign == "-" else number))
+    return form if fault(form) is None else None
+
+
+NAME, NUMBER = "([a-z]{1,8})", "(0|[1-9][0-9]{0,17})"
+LINES = (
+    ("made", f"{NAME} = (plus|less|times) {NAME} {NAME}"), ("fixed", f"{NAME} = fixed {NAME} ([a-p]) ([01])"),
+    ("put", f"{NAME} = put {NAME} ([a-p]) {NAME}"), ("none", f"{NAME} = (plus|less|times|fixed|put)( .*)?"),
+    ("text", f"{NAME} = (.*)"), ("statement", f"{NAME} := (.*)"), ("show", f"show {NAME}"),
+    ("worth", f"worth {NAME} {NUMBER}"), ("alike", f"alike {NAME} {NAME}"), ("none", "rest .* 0"),
+    ("rest", f"rest {NAME} {NAME} {NUMBER}"), ("least", f"least {NAME}"), ("ways", f"ways {NAME}"),
+    ("unknowns", f"unknowns {NAME}"), ("none", ".*"))
+
+
+class Refused(Exception):
+    """A refusal, told by its name."""
+
+
+class Desk:
+    """A desk that goes through all GIVENs; its forms should have few unknowns."""
+
+    def __init__(self):
+        self.forms = {}
+
+    def say(self, line):
+        """The answer, or the name of the refusal."""
+        for kind, pattern in LINES:
+            match = re.fullmatch(pattern, line, re.DOTALL)
+            if match:
+                break
+        try:
+            return getattr(self, f"say_{kind}")(*match.groups())
+        except Refused as refusal:
+            return str(refusal)
+
+    def kept(self, name):
+        if name not in self.forms:
+            raise Refused("NoName")
+        return self.forms[name]
+
+    def keep(self, name, form):
+        if len(form) > 300 or any(abs(number) >= 10 ** 1000 for members, number in form):
+            raise Refused("TooMany")
+        self.forms[name] = form
+        return "ok"
+
+    def keep_worths(self, name, worths, *forms):
+        """Keeps the form of these worths, told for a GIVEN; it has unknowns of the forms alone."""
+        return self.keep(name, form_from([worths(given) for given in givens(*forms)]))
+
+    def yes_no(self, form):
+        if any(worth(form, given) not in (0, 1) for given in givens(form)):
+            raise Refused("NoYesNo")
+        return form
+
+    def say_none(self, *words):
+        raise Refused("NoLine")
+
+    def say_made(self, name, word, one, other):
+        one, other = self.kept(one), self.kept(other)
+        put = {"plus": int.__add__, "less": int.__sub__, "times": int.__mul__}[word]
+        return self.keep_worths(name, lambda given: put(worth(one, given), worth(other, given)), one, other)
+
+    def say_fixed(self, name, one, letter, its):
+        form, k = self.kept(one), LETTERS.index(letter)
+        return self.keep_worths(name, lambda given: worth(form, with_bit(given, k, int(its))), form)
+
+    def say_put(self, name, one, letter, other):
+        form, k, other = self.kept(one), LETTERS.index(letter), self.kept(other)
+        self.yes_no(other)
+        return self.keep_worths(name, lambda given: worth(form, with_bit(given, k, worth(other, given))), form, other)
+
+    def say_text(self, name, text):
+        form = text_form(text)
+        if form is None:
+            raise Refused("NoForm")
+        return self.keep(name, form)
+
+    def say_statement(self, name, text):
+        statement = read(text)
+        if statement is None:
+            raise Refused("NoStatement")
+        bits = statement_bits(statement)
+        if len(bits) > 8:
+            raise Refused("TooMany")
+        return self.keep_worths(name, lambda given: statement_bit(statement, given), [(2 ** k, 1) for k in bits])
+
+    def say_show(self, name):
+        return form_text(self.kept(name))
+
+    def say_worth(self, name, given):
+        return str(worth(self.kept(name), int(given)))
+
+    def say_alike(self, name, other):
+        return self.first_unlike(self.kept(name), self.kept(other), lambda told: told)
+
+    def say_rest(self, name, other, rest):
+        return self.first_unlike(self.kept(name), self.kept(other), lambda told: told % int(rest))
+
+    def first_unlike(self, one, other, seen):
+        for given in givens(one, other):
+            if seen(worth(one, given)) != seen(worth(other, given)):
+                return str(given)
+        return "yes"
+
+    def say_least(self, name):
+        form = self.few(self.kept(name))
+        number, given = min((worth(form, given), given) for given in givens(form))
+        return f"{number} {given}"
+
+    def say_ways(self, name):
+        form = self.few(self.yes_no(self.kept(name)))
+        return str(sum(worth(form, given) for given in givens(form)))
+
+    def few(self, form):
+        if any(members >= 2 ** 10 for members, number in form):
+            raise Refused("TooMany")
+        return form
+
+    def say_unknowns(self, name):
+        form = self.kept(name)
+        return "".join(letter for k, letter in enumerate(LETTERS) if any(bit(each[0], k) for each in form)) or "none"
+
+
+def givens(*forms):
+    """All GIVENs of the least number above all unknowns of the forms."""
+    return range(2 ** max((members.bit_length() for form in forms for members, number in form), default=0))

@@ -174,6 +174,7 @@ class Language(unittest.TestCase):
         for name, files in drawn.items():
             for other, names in files.items():
                 defined = [node.name for node in trees[other].body if isinstance(node, (ast.FunctionDef, ast.ClassDef))]
+                defined += [ast.unparse(node.targets[0]) for node in trees[other].body if isinstance(node, ast.Assign)]
                 self.assertLessEqual(set(names), set(defined), name)
                 used = {node.id for node in ast.walk(trees[name]) if isinstance(node, ast.Name)}
                 self.assertLessEqual(set(names), used, name)

@@ -3,6 +3,7 @@
 import copy
 import unittest
 
+from onceform.asks import next_step
 from onceform.changes import fixed, is_yes_no, put_in, renamed, unlike, unlike_by
 from onceform.claims import form_of_formula, judged, walks, worth_of
 from onceform.forms import is_form, less, made, plus, scaled, times, unknowns, worth
@@ -11,6 +12,7 @@ from onceform.least import floor, least, shows
 from onceform.pulls import products_show, pulled
 from onceform.statements import form_of_statement, read, shown
 from onceform.tables import form_of, table_of, whole_sum
+from onceform.text import form_read, form_shown
 from onceform.trees import all_ways, form_of_tree, tree_of, ways
 
 FORM = [(0, 2), (1, -3), (6, 10 ** 60)]
@@ -61,11 +63,16 @@ CALLS = (
     (pulled, [PULLING]), (pulled, [[]]), (pulled, [[(0, 3)]]), (pulled, [[(2, -1)]]),
     (products_show, [[(0, 4), (3, 1)], 1, [(1, 3, 0), (3, 0, 0)]]), (products_show, [[], 0, []]),
     (products_show, [[(0, 1), (1, -1)], 0, [(1, 0, 1)]]),
+    (next_step, [{}, 3, 2]), (next_step, [{}, 0, 0]), (next_step, [{7: 0, 6: 0}, 3, 3]), (next_step, [{0: 5}, 0, 4]),
+    (next_step, [{0: 1, 1: 3, 2: 1, 3: 4}, 2, 3]), (next_step, [{0: 0, 1: 0}, 1, 2]),
+    (form_shown, [FORM]), (form_shown, [[]]), (form_read, ["0"]), (form_read, ["3 - 2ab + c"]), (form_read, ["-a"]),
 )
 
 
 def lists_in(told):
-    """The lists that a told or handed value holds, itself among them, the inmost first."""
+    """The lists and dicts that a told or handed value holds, itself among them, the inmost first."""
+    if isinstance(told, dict):
+        return lists_in(list(told.values()))[:-1] + [told]
     if not isinstance(told, (list, tuple)):
         return []
     inner = [each for entry in told for each in lists_in(entry)]
@@ -73,9 +80,14 @@ def lists_in(told):
 
 
 def spoil(told):
-    """Changes each entry and the length of each list that a value holds."""
+    """Changes each entry and the length of each list and dict that a value holds."""
     for each in lists_in(told):
-        each[:] = ["spoilt"] * (len(each) + 1)
+        if isinstance(each, dict):
+            spoilt = {key: 77 for key in each} | {len(each) + 1: 78}
+            each.clear()
+            each.update(spoilt)
+        else:
+            each[:] = ["spoilt"] * (len(each) + 1)
 
 
 class Own(unittest.TestCase):

@@ -76,6 +76,16 @@ class FormOfStatement(unittest.TestCase):
             self.assertEqual(form_of_statement(nots), wanted)
             self.assertEqual(form_of_statement(chain), wanted)
 
+    def test_far_deeper_on_either_side(self):
+        nots, left, right = A, A, A
+        for turn in range(3000):
+            nots = ("not", nots)
+            left = ("and", left, (A, B)[turn % 2])
+            right = ("or", (A, B)[turn % 2], right)
+        self.assertEqual(form_of_statement(nots), [(1, 1)])
+        self.assertEqual(form_of_statement(left), [(3, 1)])
+        self.assertEqual(form_of_statement(right), [(1, 1), (2, 1), (3, -1)])
+
     def test_more_bits_and_parts_are_not_refused(self):
         statement = ("bit", 0)
         for k in range(1, 10):
